@@ -318,6 +318,25 @@ func TestEval(t *testing.T) {
 	}
 }
 
+// TestEvalOfLongExpressions is about expressions that are too long to be valid, as
+// derivatives can be: the same rules apply to them (layer 10).
+func TestEvalOfLongExpressions(t *testing.T) {
+	time := between(one, 2*one)
+	for _, nodes := range []int{201, 203, 999, 4001} {
+		terms := int64(nodes+1) / 2
+		if got, want := Eval(long(nodes), nil, time), between(terms*one, 2*terms*one); got != want {
+			t.Errorf("Eval = %v for %d nodes, want %v", got, nodes, want)
+		}
+		e := join(api.Div, join(api.Neg, variable(0)), deep(nodes))
+		if got := Eval(e, []api.Interval{between(one, one)}, time); got != point(-one) {
+			t.Errorf("Eval = %v for %d nodes, want -1", got, len(e))
+		}
+	}
+	if got := Eval(join(api.Sqrt, deep(300)), []api.Interval{point(0)}, entire); got != point(0) {
+		t.Errorf("Eval gives %v for a square root", got)
+	}
+}
+
 func TestDerivatives(t *testing.T) {
 	s := api.System{Names: []string{"x", "v", "w"}, F: [][]api.Node{variable(1), join(api.Neg, variable(0)), join(api.Mul, now(), variable(2))}}
 	box := []api.Interval{between(one, 2*one), between(-one, 3*one), point(one / 2)}
